@@ -1,0 +1,56 @@
+// Package graft: folder trees, the steps from one to another, and replicas that grow together: see DOC.md.
+package graft
+
+import (
+	"graft/api"
+	"graft/steps"
+	"graft/trees"
+)
+
+// Check tells whether a text is a tree (P3).
+func Check(tree string) (api.Errno, int) {
+	_, e, at := trees.Read(tree)
+	return e, at
+}
+
+// Apply does the steps of a script in a tree (P4).
+func Apply(tree string, script string) (string, int, api.Errno) {
+	// A script that is too long comes ahead of every fault of the tree.
+	if len(tree) > api.MaxText || len(script) > api.MaxText {
+		return "", 0, api.ErrLong
+	}
+	t, e, at := trees.Read(tree)
+	if e != api.OK {
+		return "", at, e
+	}
+	list, formed := steps.Read(script)
+	if !formed {
+		return "", len(list), api.ErrStep
+	}
+	e, at = steps.DoAll(list, &t)
+	if e != api.OK {
+		return "", at, e
+	}
+	return t.Text(), 0, api.OK
+}
+
+// Compile finds the steps from one tree to another (P5 to P7).
+func Compile(from string, to string) (string, api.Errno) { return "", api.OK }
+
+// Replica is a log of ops, and the site that makes some of them.
+type Replica struct{}
+
+// New makes a replica with an empty log (P8).
+func New(site int) (*Replica, api.Errno) { return nil, api.OK }
+
+// Deliver takes ops that were made elsewhere (P9).
+func (r *Replica) Deliver(ops string) (int, api.Errno) { return 0, api.OK }
+
+// Log writes the log down (P10).
+func (r *Replica) Log() string { return "" }
+
+// Export shows the tree (P10).
+func (r *Replica) Export() string { return "" }
+
+// Ingest takes a tree as it now is, and makes the ops that lead to it (P11).
+func (r *Replica) Ingest(tree string) (string, api.Errno) { return "", api.OK }
