@@ -3,6 +3,7 @@ package graft
 
 import (
 	"graft/api"
+	"graft/plans"
 	"graft/steps"
 	"graft/trees"
 )
@@ -35,7 +36,22 @@ func Apply(tree string, script string) (string, int, api.Errno) {
 }
 
 // Compile finds the steps from one tree to another (P5 to P7).
-func Compile(from string, to string) (string, api.Errno) { return "", api.OK }
+func Compile(from string, to string) (string, api.Errno) {
+	// A second tree that is too long comes ahead of every fault of the first.
+	if len(from) > api.MaxText || len(to) > api.MaxText {
+		return "", api.ErrLong
+	}
+	start, e, _ := trees.Read(from)
+	if e != api.OK {
+		return "", e
+	}
+	goal, e, _ := trees.Read(to)
+	if e != api.OK {
+		return "", e
+	}
+	list := plans.Make(start, goal)
+	return steps.Text(list), api.OK
+}
 
 // Replica is a log of ops, and the site that makes some of them.
 type Replica struct{}

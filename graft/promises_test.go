@@ -31,6 +31,17 @@ func mayTell(t *testing.T, tree string, script string) {
 	if at < 0 || (at != 0 && (e == api.OK || e == api.ErrLong)) || (e != api.OK && out != "") {
 		t.Errorf("P1: Apply(%.60q, %.60q) = %.60q, %d, %d", tree, script, out, at, e)
 	}
+	mayCompile(t, tree, script)
+	mayCompile(t, tree, "2 0 b;3 2 a;")
+	mayCompile(t, "2 0 b;3 2 a;", tree)
+}
+
+func mayCompile(t *testing.T, from string, to string) {
+	t.Helper()
+	out, e := graft.Compile(from, to)
+	if e < api.OK || e > api.ErrTwice || (e != api.OK && out != "") {
+		t.Errorf("P1: Compile(%.60q, %.60q) = %.60q, %d", from, to, out, e)
+	}
 }
 
 func TestP1OddTexts(t *testing.T) {
@@ -83,34 +94,41 @@ func TestP1FirstNamed(t *testing.T) {
 	wantFault(t, "2 0 a;x", "-9;x", 1, api.ErrForm)
 	wantFault(t, "2 0 a;", "-9;x", 1, api.ErrStep)
 	wantFault(t, "2 0 a;", "-9;", 0, api.ErrMissing)
+	wantRefused(t, "x", strings.Repeat("x", api.MaxText+1), api.ErrLong)
+	wantRefused(t, "2 0 a;4 0 a;", "x", api.ErrTwice)
+	wantRefused(t, "2 0 a;", "2 2 a;x", api.ErrForm)
 }
 
 // What was asked before, and how often, changes no answer.
 func TestP2ArgumentsAlone(t *testing.T) {
-	type answer struct {
-		checkE, applyE   api.Errno
-		checkAt, applyAt int
-		out              string
+	type question struct {
+		tree, script, to string
 	}
-	ask := func(tree string, script string) answer {
+	type answer struct {
+		checkE, applyE, compileE api.Errno
+		checkAt, applyAt         int
+		out, steps               string
+	}
+	ask := func(q question) answer {
 		var a answer
-		a.checkE, a.checkAt = graft.Check(tree)
-		a.out, a.applyAt, a.applyE = graft.Apply(tree, script)
+		a.checkE, a.checkAt = graft.Check(q.tree)
+		a.out, a.applyAt, a.applyE = graft.Apply(q.tree, q.script)
+		a.steps, a.compileE = graft.Compile(q.tree, q.to)
 		return a
 	}
 	r := rand.New(rand.NewSource(2))
-	var pairs [][2]string
+	var list []question
 	for i := 0; i < 500; i++ {
-		pairs = append(pairs, [2]string{realTree(r), someScript(r)}, [2]string{someTree(r), damaged(r, someScript(r))})
+		list = append(list, question{realTree(r), someScript(r), realTree(r)}, question{someTree(r), damaged(r, someScript(r)), someTree(r)})
 	}
 	var first []answer
-	for _, p := range pairs {
-		first = append(first, ask(p[0], p[1]))
+	for _, q := range list {
+		first = append(first, ask(q))
 	}
-	for _, i := range r.Perm(len(pairs)) {
+	for _, i := range r.Perm(len(list)) {
 		for again := 0; again < 2; again++ {
-			if got := ask(pairs[i][0], pairs[i][1]); got != first[i] {
-				t.Errorf("P2: of %q and %q first %v, then %v", pairs[i][0], pairs[i][1], first[i], got)
+			if got := ask(list[i]); got != first[i] {
+				t.Errorf("P2: of %q first %v, then %v", list[i], first[i], got)
 			}
 		}
 	}

@@ -1,7 +1,9 @@
-// Package steps reads scripts and does their steps in a tree.
+// Package steps reads and writes scripts, and does their steps in a tree.
 package steps
 
 import (
+	"strconv"
+
 	"graft/api"
 	"graft/records"
 	"graft/trees"
@@ -48,6 +50,28 @@ func readStep(record string) (Step, bool) {
 		return Step{Kind: kind, Node: trees.Node{Id: id}}, formed
 	}
 	return Step{}, false
+}
+
+// Text writes the step as a record.
+func (s Step) Text() string {
+	switch s.Kind {
+	case Create:
+		return "+" + s.Node.Text()
+	case Move:
+		return "=" + s.Node.Text()
+	case Delete:
+		return "-" + strconv.Itoa(s.Node.Id) + ";"
+	}
+	return ""
+}
+
+// Text writes steps as a script.
+func Text(list []Step) string {
+	script := ""
+	for _, s := range list {
+		script += s.Text()
+	}
+	return script
 }
 
 // Do does the step in a tree. A step that cannot be done leaves the tree as it was.

@@ -36,3 +36,14 @@ func TestDoOfNoStep(t *testing.T) {
 		t.Errorf("got %d and %q", e, tree.Text())
 	}
 }
+
+func TestText(t *testing.T) {
+	const script = "+3 2 x~3;=3 0 y;-2;"
+	list, _ := Read(script)
+	if got := Text(list); got != script {
+		t.Errorf("got %q", got)
+	}
+	if Text(nil) != "" || (Step{Kind: 'x'}).Text() != "" {
+		t.Errorf("no steps have a text")
+	}
+}

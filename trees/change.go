@@ -7,7 +7,7 @@ func (t *Tree) Create(n Node) api.Errno {
 	if t.Has(n.Id) {
 		return api.ErrHere
 	}
-	if !t.isParent(n.Parent) {
+	if !t.IsParent(n.Parent) {
 		return api.ErrParent
 	}
 	if t.At(n.Parent, n.Name) != api.Root {
@@ -22,10 +22,10 @@ func (t *Tree) Move(n Node) api.Errno {
 	if !t.Has(n.Id) {
 		return api.ErrMissing
 	}
-	if !t.isParent(n.Parent) {
+	if !t.IsParent(n.Parent) {
 		return api.ErrParent
 	}
-	if t.meets(n.Parent, n.Id) {
+	if t.Meets(n.Parent, n.Id) {
 		return api.ErrLoop
 	}
 	other := t.At(n.Parent, n.Name)
@@ -41,7 +41,7 @@ func (t *Tree) Delete(id int) api.Errno {
 	if !t.Has(id) {
 		return api.ErrMissing
 	}
-	if t.hasKids(id) {
+	if t.Kid(id) != api.Root {
 		return api.ErrKids
 	}
 	t.remove(id)

@@ -79,7 +79,7 @@ func firstUnordered(nodes []Node) int {
 
 func (t *Tree) firstOrphan(nodes []Node) int {
 	for i, n := range nodes {
-		if !t.isParent(n.Parent) {
+		if !t.IsParent(n.Parent) {
 			return i
 		}
 	}
@@ -88,7 +88,7 @@ func (t *Tree) firstOrphan(nodes []Node) int {
 
 func (t *Tree) firstLooped(nodes []Node) int {
 	for i, n := range nodes {
-		if !t.meets(n.Id, api.Root) {
+		if !t.Meets(n.Id, api.Root) {
 			return i
 		}
 	}

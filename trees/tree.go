@@ -13,6 +13,14 @@ func (t *Tree) Has(id int) bool {
 	return id >= 1 && id <= api.MaxId && t.here[id]
 }
 
+// Get answers the node id, or a node without an ID if the tree does not have it.
+func (t *Tree) Get(id int) Node {
+	if !t.Has(id) {
+		return Node{}
+	}
+	return t.nodes[id]
+}
+
 // At answers the ID of the node at a place, or Root if there is none.
 func (t *Tree) At(parent int, name string) int {
 	for id := 1; id <= api.MaxId; id++ {
@@ -34,37 +42,23 @@ func (t *Tree) Text() string {
 	return text
 }
 
-func (t *Tree) put(n Node) {
-	if n.Id >= 1 && n.Id <= api.MaxId {
-		t.here[n.Id] = true
-		t.nodes[n.Id] = n
-	}
-}
-
-func (t *Tree) remove(id int) {
-	if t.Has(id) {
-		t.here[id] = false
-		t.nodes[id] = Node{}
-	}
-}
-
-// isParent tells whether nodes may stand under id.
-func (t *Tree) isParent(id int) bool {
+// IsParent tells whether nodes may stand under id.
+func (t *Tree) IsParent(id int) bool {
 	return id == api.Root || (IsFolder(id) && t.Has(id))
 }
 
-// hasKids tells whether id is the parent of a node.
-func (t *Tree) hasKids(id int) bool {
+// Kid answers the first node whose parent is id, or Root if there is none.
+func (t *Tree) Kid(id int) int {
 	for kid := 1; kid <= api.MaxId; kid++ {
 		if t.here[kid] && t.nodes[kid].Parent == id {
-			return true
+			return kid
 		}
 	}
-	return false
+	return api.Root
 }
 
-// meets tells whether goal is start, or is met by going up from it.
-func (t *Tree) meets(start int, goal int) bool {
+// Meets tells whether goal is start, or is met by going up from it.
+func (t *Tree) Meets(start int, goal int) bool {
 	id := start
 	// No way up to Root is longer than MaxId: one that goes on is a loop, and comes to nothing new.
 	for i := 0; i <= api.MaxId; i++ {
@@ -77,4 +71,18 @@ func (t *Tree) meets(start int, goal int) bool {
 		id = t.nodes[id].Parent
 	}
 	return false
+}
+
+func (t *Tree) put(n Node) {
+	if n.Id >= 1 && n.Id <= api.MaxId {
+		t.here[n.Id] = true
+		t.nodes[n.Id] = n
+	}
+}
+
+func (t *Tree) remove(id int) {
+	if t.Has(id) {
+		t.here[id] = false
+		t.nodes[id] = Node{}
+	}
 }

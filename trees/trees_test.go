@@ -73,3 +73,13 @@ func TestNumbersOfNoNode(t *testing.T) {
 		}
 	}
 }
+
+func TestGetAndKid(t *testing.T) {
+	tree, _, _ := Read("2 0 a;3 4 b;4 2 c;5 4 d;")
+	if tree.Get(4) != (Node{4, 2, "c"}) || tree.Get(6) != (Node{}) || tree.Get(0) != (Node{}) || tree.Get(-1) != (Node{}) || tree.Get(100) != (Node{}) {
+		t.Errorf("the nodes are not those of the text")
+	}
+	if tree.Kid(0) != 2 || tree.Kid(2) != 4 || tree.Kid(4) != 3 || tree.Kid(3) != api.Root || tree.Kid(6) != api.Root {
+		t.Errorf("the kids are not those of the text")
+	}
+}
