@@ -3,6 +3,7 @@ package graft
 
 import (
 	"graft/api"
+	"graft/logs"
 	"graft/plans"
 	"graft/steps"
 	"graft/trees"
@@ -54,19 +55,39 @@ func Compile(from string, to string) (string, api.Errno) {
 }
 
 // Replica is a log of ops, and the site that makes some of them.
-type Replica struct{}
+type Replica struct {
+	site int
+	log  logs.Log
+}
 
 // New makes a replica with an empty log (P8).
-func New(site int) (*Replica, api.Errno) { return nil, api.OK }
+func New(site int) (*Replica, api.Errno) {
+	if site < 1 || site > api.MaxSite {
+		return nil, api.ErrSite
+	}
+	return &Replica{site: site}, api.OK
+}
 
 // Deliver takes ops that were made elsewhere (P9).
-func (r *Replica) Deliver(ops string) (int, api.Errno) { return 0, api.OK }
+func (r *Replica) Deliver(ops string) (int, api.Errno) {
+	if len(ops) > api.MaxText {
+		return 0, api.ErrLong
+	}
+	list, formed := logs.Read(ops)
+	if !formed {
+		return 0, api.ErrOp
+	}
+	return r.log.Join(list)
+}
 
 // Log writes the log down (P10).
-func (r *Replica) Log() string { return "" }
+func (r *Replica) Log() string { return r.log.Text() }
 
 // Export shows the tree (P10).
-func (r *Replica) Export() string { return "" }
+func (r *Replica) Export() string {
+	view := r.log.View()
+	return view.Text()
+}
 
 // Ingest takes a tree as it now is, and makes the ops that lead to it (P11).
 func (r *Replica) Ingest(tree string) (string, api.Errno) { return "", api.OK }

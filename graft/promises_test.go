@@ -11,8 +11,8 @@ import (
 
 // odd: texts of every length class and content that a record may be mistaken at.
 func odd() []string {
-	list := []string{"", ";", " ", "~", "-", "+", "=", "\x00", "\xff", "\u00e9;", ";;;", "   ;", "2", "2 ", "2 0", "2 0 ", "2 0 a", "-2", "+2 0 a", "=2 0 a", "~;", "2 0 ~;", "2 0 a~;", "-;"}
-	for _, c := range []string{"x", ";", " ", "9", "~", "-", "+", "\x00", "2 0 a;", "+2 0 a;", "-2;"} {
+	list := []string{"", ";", " ", "~", "-", "+", "=", "\x00", "\xff", "\u00e9;", ";;;", "   ;", "2", "2 ", "2 0", "2 0 ", "2 0 a", "-2", "+2 0 a", "=2 0 a", "~;", "2 0 ~;", "2 0 a~;", "-;", "1 1 2 0 a", "1 1 2 100", "1 1 2 100 ", "    ;", "1 1 1 1 1;"}
+	for _, c := range []string{"x", ";", " ", "9", "~", "-", "+", "\x00", "2 0 a;", "+2 0 a;", "-2;", "1 1 2 0 a;", "1 1 2 100 -;"} {
 		for _, n := range []int{99, 100, 101, api.MaxText - 1, api.MaxText, api.MaxText + 1, 100000} {
 			list = append(list, strings.Repeat(c, n/len(c)), strings.Repeat(c, n)[:n])
 		}
@@ -34,6 +34,7 @@ func mayTell(t *testing.T, tree string, script string) {
 	mayCompile(t, tree, script)
 	mayCompile(t, tree, "2 0 b;3 2 a;")
 	mayCompile(t, "2 0 b;3 2 a;", tree)
+	mayDeliver(t, script)
 }
 
 func mayCompile(t *testing.T, from string, to string) {
@@ -44,12 +45,26 @@ func mayCompile(t *testing.T, from string, to string) {
 	}
 }
 
+func mayDeliver(t *testing.T, ops string) {
+	t.Helper()
+	r, _ := graft.New(1)
+	n, e := r.Deliver(ops)
+	if n < 0 || (e != api.OK && (n != 0 || r.Log() != "" || r.Export() != "")) {
+		t.Errorf("P1: Deliver(%.60q) = %d, %d, and Log is %.60q", ops, n, e, r.Log())
+	}
+	if e != api.OK && e != api.ErrLong && e != api.ErrOp && e != api.ErrFull {
+		t.Errorf("P1: Deliver(%.60q) = %d, %d", ops, n, e)
+	}
+}
+
 func TestP1OddTexts(t *testing.T) {
 	list := odd()
 	for _, a := range list {
 		mayTell(t, a, a)
 		mayTell(t, "2 0 a;", a)
 		mayTell(t, "2 0 a;"+a, "-2;"+a)
+		mayDeliver(t, "1 1 2 0 a;"+a)
+		mayDeliver(t, "1 1 2 0 "+a)
 	}
 }
 
@@ -97,6 +112,11 @@ func TestP1FirstNamed(t *testing.T) {
 	wantRefused(t, "x", strings.Repeat("x", api.MaxText+1), api.ErrLong)
 	wantRefused(t, "2 0 a;4 0 a;", "x", api.ErrTwice)
 	wantRefused(t, "2 0 a;", "2 2 a;x", api.ErrForm)
+	full := newReplica(t, 1)
+	wantDelivered(t, full, row(1, api.MaxLog), api.MaxLog, api.OK)
+	wantDelivered(t, full, strings.Repeat("1 2 2 0 a;x", 400), 0, api.ErrLong)
+	wantDelivered(t, full, "1 2 2 0 a;x", 0, api.ErrOp)
+	wantDelivered(t, full, "1 2 2 0 a;", 0, api.ErrFull)
 }
 
 // What was asked before, and how often, changes no answer.

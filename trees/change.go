@@ -13,7 +13,7 @@ func (t *Tree) Create(n Node) api.Errno {
 	if t.At(n.Parent, n.Name) != api.Root {
 		return api.ErrTwice
 	}
-	t.put(n)
+	t.Put(n)
 	return api.OK
 }
 
@@ -32,7 +32,7 @@ func (t *Tree) Move(n Node) api.Errno {
 	if other != api.Root && other != n.Id {
 		return api.ErrTwice
 	}
-	t.put(n)
+	t.Put(n)
 	return api.OK
 }
 

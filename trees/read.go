@@ -44,7 +44,7 @@ func readNodes(list []string) []Node {
 func gather(nodes []Node) Tree {
 	var t Tree
 	for _, n := range nodes {
-		t.put(n)
+		t.Put(n)
 	}
 	return t
 }

@@ -73,7 +73,8 @@ func (t *Tree) Meets(start int, goal int) bool {
 	return false
 }
 
-func (t *Tree) put(n Node) {
+// Put gives a node its place, and does not ask whether a tree allows it.
+func (t *Tree) Put(n Node) {
 	if n.Id >= 1 && n.Id <= api.MaxId {
 		t.here[n.Id] = true
 		t.nodes[n.Id] = n

@@ -68,8 +68,27 @@ func TestNumbersOfNoNode(t *testing.T) {
 			t.Errorf("an empty tree has the node %d", id)
 		}
 		tree.Create(Node{id, 0, "a"})
+		tree.Put(Node{id, 0, "a"})
 		if tree.Text() != "" {
 			t.Errorf("the tree took the node %d", id)
+		}
+	}
+}
+
+func TestPutAsksNothing(t *testing.T) {
+	var tree Tree
+	for _, n := range []Node{{3, 6, "a"}, {5, 6, "a"}, {7, api.Trash, "-"}, {2, 4, "b"}, {4, 0, "c"}, {4, 0, "d"}} {
+		tree.Put(n)
+	}
+	if got := tree.Text(); got != "2 4 b;3 6 a;4 0 d;5 6 a;7 100 -;" {
+		t.Errorf("got %q", got)
+	}
+	if tree.At(6, "a") != 3 {
+		t.Errorf("of two nodes at a place, the first is not %d", tree.At(6, "a"))
+	}
+	for id, want := range []bool{true, false, true, false, true, false, false, false} {
+		if tree.Meets(id, api.Root) != want {
+			t.Errorf("does %d come to Root? %v", id, !want)
 		}
 	}
 }
