@@ -90,4 +90,14 @@ func (r *Replica) Export() string {
 }
 
 // Ingest takes a tree as it now is, and makes the ops that lead to it (P11).
-func (r *Replica) Ingest(tree string) (string, api.Errno) { return "", api.OK }
+func (r *Replica) Ingest(tree string) (string, api.Errno) {
+	goal, e, _ := trees.Read(tree)
+	if e != api.OK {
+		return "", e
+	}
+	made, e := r.log.Reach(goal, r.site)
+	if e != api.OK {
+		return "", e
+	}
+	return logs.Text(made), api.OK
+}

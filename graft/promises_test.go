@@ -35,6 +35,7 @@ func mayTell(t *testing.T, tree string, script string) {
 	mayCompile(t, tree, "2 0 b;3 2 a;")
 	mayCompile(t, "2 0 b;3 2 a;", tree)
 	mayDeliver(t, script)
+	mayIngest(t, tree)
 }
 
 func mayCompile(t *testing.T, from string, to string) {
@@ -57,6 +58,22 @@ func mayDeliver(t *testing.T, ops string) {
 	}
 }
 
+// mayIngest: an error is one of those that are named, and has no ops.
+func mayIngest(t *testing.T, tree string) {
+	t.Helper()
+	for _, log := range []string{"", "1 1 2 0 a;2 1 4 0 a;3 1 5 100 -;"} {
+		r, _ := graft.New(1)
+		r.Deliver(log)
+		made, e := r.Ingest(tree)
+		if e != api.OK && (made != "" || r.Log() != log) {
+			t.Errorf("P1: Ingest(%.60q) = %.60q, %d, and Log is %.60q", tree, made, e, r.Log())
+		}
+		if check, _ := graft.Check(tree); e != check && (e != api.ErrUsed || log == "") {
+			t.Errorf("P1: Ingest(%.60q) = %.60q, %d", tree, made, e)
+		}
+	}
+}
+
 func TestP1OddTexts(t *testing.T) {
 	list := odd()
 	for _, a := range list {
@@ -65,6 +82,8 @@ func TestP1OddTexts(t *testing.T) {
 		mayTell(t, "2 0 a;"+a, "-2;"+a)
 		mayDeliver(t, "1 1 2 0 a;"+a)
 		mayDeliver(t, "1 1 2 0 "+a)
+		mayIngest(t, "2 0 a;"+a)
+		mayIngest(t, "2 0 "+a)
 	}
 }
 

@@ -153,22 +153,9 @@ func someOps(r *rand.Rand, most int, counts int, ids int) string {
 // compareReplica hands the same texts to a replica and to the model.
 func compareReplica(t *testing.T, site int, texts []string, seen *[16]int) {
 	t.Helper()
-	x := newReplica(t, site)
-	log := map[stamp]modelOp{}
+	p := newPair(t, site)
 	for _, ops := range texts {
-		n, e := modelDeliver(log, ops)
-		seen[e]++
-		gotN, gotE := x.Deliver(ops)
-		if gotN != n || gotE != e {
-			t.Fatalf("P9: behind %q: Deliver(%q) = %d, %d, want %d, %d", modelLog(log), ops, gotN, gotE, n, e)
-		}
-		if got, want := x.Log(), modelLog(log); got != want {
-			t.Fatalf("P10: behind %q: Log is %q, want %q", texts, got, want)
-		}
-		if got, want := x.Export(), modelView(log); got != want {
-			t.Fatalf("P10: behind %q: Export is %q, want %q", x.Log(), got, want)
-		}
-		wantCheck(t, x.Export(), api.OK, 0)
+		p.deliver(t, ops, seen)
 	}
 }
 
@@ -258,23 +245,50 @@ func TestP10AllOrders(t *testing.T) {
 	}
 }
 
+// call: a text that a replica is handed.
+type call struct {
+	ingest bool
+	text   string
+}
+
+// answerTo makes a call, and answers its first result as a text.
+func answerTo(x *graft.Replica, c call) (string, api.Errno) {
+	if c.ingest {
+		return x.Ingest(c.text)
+	}
+	n, e := x.Deliver(c.text)
+	return strconv.Itoa(n), e
+}
+
+func someCall(r *rand.Rand, view string) call {
+	if r.Intn(2) == 0 {
+		return call{true, someEdit(r, view)}
+	}
+	ops := someOps(r, 4, 20, 9)
+	if r.Intn(3) == 0 {
+		ops = damaged(r, ops)
+	}
+	return call{false, ops}
+}
+
 // Replicas side by side, refusals among the calls, and questions asked more often than needed: none of it changes an answer.
 func TestP2Replicas(t *testing.T) {
 	r := rand.New(rand.NewSource(12))
 	for i := 0; i < 150; i++ {
 		var side [9]*graft.Replica
-		var texts [9][]string
+		var sites [9]int
+		var calls [9][]call
+		var answers [9][]string
 		for k := range side {
-			side[k] = newReplica(t, 1+r.Intn(9))
+			sites[k] = 1 + r.Intn(9)
+			side[k] = newReplica(t, sites[k])
 		}
 		for step := 0; step < 60; step++ {
 			k := r.Intn(len(side))
-			ops := someOps(r, 4, 20, 9)
-			if r.Intn(3) == 0 {
-				ops = damaged(r, ops)
-			}
-			if _, e := side[k].Deliver(ops); e == api.OK {
-				texts[k] = append(texts[k], ops)
+			c := someCall(r, side[k].Export())
+			if answer, e := answerTo(side[k], c); e == api.OK {
+				calls[k] = append(calls[k], c)
+				answers[k] = append(answers[k], answer)
 			}
 			other := side[r.Intn(len(side))]
 			log, view := other.Log(), other.Export()
@@ -283,11 +297,12 @@ func TestP2Replicas(t *testing.T) {
 			}
 		}
 		for k := range side {
-			order := make([]int, len(texts[k]))
-			for at := range order {
-				order[at] = at
+			alone := newReplica(t, sites[k])
+			for at, c := range calls[k] {
+				if answer, e := answerTo(alone, c); answer != answers[k][at] || e != api.OK {
+					t.Fatalf("P2: %v first gave %q, then %q, %d", c, answers[k][at], answer, e)
+				}
 			}
-			alone := handed(t, 1+r.Intn(9), texts[k], order)
 			wantShown(t, side[k], alone.Log(), alone.Export())
 		}
 	}

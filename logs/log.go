@@ -44,10 +44,4 @@ func (l *Log) insert(op Op) {
 }
 
 // Text writes the ops as a text, in their order.
-func (l *Log) Text() string {
-	text := ""
-	for _, op := range l.ops {
-		text += op.Text()
-	}
-	return text
-}
+func (l *Log) Text() string { return Text(l.ops) }

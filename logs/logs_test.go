@@ -63,17 +63,61 @@ func TestJoinRefused(t *testing.T) {
 	}
 }
 
-// The log keeps no part of a text that was handed in: it would keep all of it.
-func TestNamesAreCopies(t *testing.T) {
-	text := "1 1 2 0 abcdefgh;2 1 3 100 -;"
+// wantCopies wants no name of the log to be a part of the text: it would keep all of it.
+func wantCopies(t *testing.T, l *Log, text string) {
+	t.Helper()
 	start := uintptr(unsafe.Pointer(unsafe.StringData(text)))
-	var l Log
-	l.Join(read(t, text))
 	for _, op := range l.ops {
 		at := uintptr(unsafe.Pointer(unsafe.StringData(op.Node.Name)))
 		if at >= start && at < start+uintptr(len(text)) {
 			t.Errorf("the name of %q is a part of the text", op.Text())
 		}
+	}
+}
+
+func TestNamesAreCopies(t *testing.T) {
+	var l Log
+	text := "1 1 2 0 abcdefgh;2 1 3 100 -;"
+	l.Join(read(t, text))
+	wantCopies(t, &l, text)
+	text = "2 0 abcdefgh~2;4 2 abcdefgh;"
+	l.Reach(goal(t, text), 1)
+	wantCopies(t, &l, text)
+}
+
+func goal(t *testing.T, text string) trees.Tree {
+	t.Helper()
+	tree, e, _ := trees.Read(text)
+	if e != api.OK {
+		t.Fatalf("no tree: %q", text)
+	}
+	return tree
+}
+
+func TestReach(t *testing.T) {
+	var l Log
+	l.Join(read(t, "1 9 2 0 a;1 8 4 0 a;7 9 5 4 b;"))
+	made, e := l.Reach(goal(t, "2 0 b;4 0 a~4;"), 3)
+	if got := Text(made); got != "8 3 4 0 a~4;9 3 2 0 b;10 3 5 100 -;" || e != api.OK {
+		t.Errorf("got %q, %d", got, e)
+	}
+	const want = "1 8 4 0 a;1 9 2 0 a;7 9 5 4 b;8 3 4 0 a~4;9 3 2 0 b;10 3 5 100 -;"
+	if l.Text() != want {
+		t.Errorf("the log is %q", l.Text())
+	}
+	made, e = l.Reach(goal(t, "2 0 c;5 2 b;"), 3)
+	if made != nil || e != api.ErrUsed || l.Text() != want {
+		t.Errorf("got %v, %d, %q", made, e, l.Text())
+	}
+}
+
+// What is done to the ops that Reach answered does not go back to the log.
+func TestReachedOpsAreOwn(t *testing.T) {
+	var l Log
+	made, _ := l.Reach(goal(t, "2 0 a;3 2 b;"), 1)
+	made[0].Node.Name = "x"
+	if l.Text() != "1 1 2 0 a;2 1 3 2 b;" {
+		t.Errorf("the log is %q", l.Text())
 	}
 }
 

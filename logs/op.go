@@ -64,6 +64,15 @@ func (op Op) Text() string {
 	return count + " " + site + " " + op.Node.Text()
 }
 
+// Text writes ops as a text, in turn.
+func Text(list []Op) string {
+	text := ""
+	for _, op := range list {
+		text += op.Text()
+	}
+	return text
+}
+
 // isAhead tells whether the op comes ahead of another in the order of ops.
 func (op Op) isAhead(other Op) bool {
 	if op.Count != other.Count {
