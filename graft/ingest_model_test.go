@@ -201,7 +201,7 @@ func TestP11ModelGreat(t *testing.T) {
 	wantSeen(t, seen, api.OK, api.ErrFull)
 }
 
-// From every small log to every small tree: behind OK the tree is shown, and it is refused for no other reason than ErrUsed.
+// From every log of three of these ops to every small tree: behind OK the tree is shown, and it is refused for no other reason than ErrUsed.
 func TestP12All(t *testing.T) {
 	ops := []string{"2 0 a;", "2 4 a;", "2 100 -;", "4 0 a;", "4 2 a;", "3 0 a;", "3 2 a~3;", "3 4 b;"}
 	trees := forms([]int{2, 3, 4}, "a", "a~")
